@@ -1,0 +1,1 @@
+"""Foreseehall: sentences of time over small worlds, judged with papers."""
