@@ -1,4 +1,4 @@
-"""What all tests share: point [1] is looked after at each call, and worlds are made to ask of."""
+"""What all tests share: point [1] is looked after at each call, and worlds and sentences are made to ask of."""
 
 import copy
 import itertools
@@ -115,6 +115,210 @@ def wrong_worlds():
         ("steps out of order", ([0, 0], [[], []], [[1, 0], [1]])),
         ("steps out of order in the last room", ([0, 0, 0], [[], [], []], [[0], [1], [0, 2, 1]])),
     ]
+
+
+ONE_PART = ["not", "some next", "all next", "some always", "all always"]
+TWO_PARTS = ["and", "or", "some until", "all until"]
+YES = ("yes",)
+NEVER = ("not", YES)
+A, B, C, D, E, F = [("mark", letter) for letter in LETTERS]
+
+# Every sign that may stand in a text that is handed in.
+SIGNS = "\t\n" + "".join(chr(number) for number in range(ord(" "), ord("~") + 1) if number != ord("%"))
+
+
+def texts_beside(text, signs=SIGNS):
+    """All texts that have one sign less, one more or another one, each once, the text itself not."""
+    found = {}
+    for place in range(len(text) + 1):
+        found[text[:place] + text[place + 1:]] = True
+        for sign in signs:
+            found[text[:place] + sign + text[place:]] = True
+            found[text[:place] + sign + text[place + 1:]] = True
+    return [other for other in found if other != text]
+
+
+def parts_of(sentence):
+    return [] if sentence[0] == "mark" else list(sentence[1:])
+
+
+def tuples_in(sentence):
+    """All tuples of a sentence, itself among them, one entry for each place where one stands."""
+    found = [sentence]
+    for part in parts_of(sentence):
+        found = found + tuples_in(part)
+    return found
+
+
+def depth_of(sentence):
+    return 1 + max([depth_of(part) for part in parts_of(sentence)], default=0)
+
+
+def sentences_of(many, leaves):
+    """All sentences of so many words, of all words and these leaves."""
+    by_words = {1: list(leaves)}
+    for size in range(2, many + 1):
+        found = [(word, part) for word in ONE_PART for part in by_words[size - 1]]
+        for first in range(1, size - 1):
+            for one in by_words[first]:
+                for other in by_words[size - 1 - first]:
+                    found += [(word, one, other) for word in TWO_PARTS]
+        by_words[size] = found
+    return by_words[many]
+
+
+def chain(word, many, leaf=A):
+    """A sentence in which a word stands so many times within itself, the last time of a leaf."""
+    told = leaf
+    for _ in range(many):
+        told = (word, told) if word in ONE_PART else (word, B, told)
+    return told
+
+
+def tree(word, leaves):
+    """A sentence of a word of two parts with these leaves, as flat as can be."""
+    if len(leaves) == 1:
+        return leaves[0]
+    half = len(leaves) // 2
+    return (word, tree(word, leaves[:half]), tree(word, leaves[half:]))
+
+
+def many_leaves(many):
+    return [("mark", LETTERS[number % 6]) for number in range(many)]
+
+
+def mixed_sentence(many, seed):
+    """A sentence of so many words, any words here and there; the same one for the same seed."""
+    state = (seed * 7919 + many) * 1103515245 % 2 ** 31
+    state = (state * 1103515245 + 12345) % 2 ** 31
+    draw = state >> 12
+    if many == 1:
+        return YES if draw % 9 == 0 else ("mark", LETTERS[draw % 6])
+    if many == 2 or draw % 4 == 0:
+        return (ONE_PART[draw // 4 % 5], mixed_sentence(many - 1, draw))
+    first = 1 + draw // 16 % (many - 2) if many < 12 else (many - 1) // 2
+    rest = mixed_sentence(many - 1 - first, draw + 5)
+    return (TWO_PARTS[draw // 4 % 4], mixed_sentence(first, draw + 2), rest)
+
+
+def some_sentences():
+    """Each word, small ones of each kind, and the greatest that there are."""
+    small = [sentence for many in (1, 2, 3) for sentence in sentences_of(many, [YES, A])]
+    middle = [mixed_sentence(many, seed) for many in range(4, 30) for seed in range(2)]
+    deep = [chain(word, 23) for word in ONE_PART + TWO_PARTS]
+    wide = [tree(word, many_leaves(100)) for word in TWO_PARTS]
+    whole = [("not", sentence) for sentence in wide] + [mixed_sentence(200, seed) for seed in range(3)]
+    return small + middle + deep + wide + whole
+
+
+def nested(many):
+    """A tuple that has itself twice in each tuple above: a few tuples in very many places."""
+    told = A
+    for _ in range(many):
+        told = ("and", told, told)
+    return told
+
+
+def wrong_sentences():
+    """Tuples of texts and tuples that are no sentences, each with what is wrong with it."""
+    found = [
+        ("nothing", ()),
+        ("an empty tuple within", ("not", ())),
+        ("an empty tuple as first part", ("and", (), A)),
+        ("an empty tuple as last part", ("and", A, ())),
+        ("a tuple of an empty tuple", ((),)),
+        ("a sentence within a tuple", (A,)),
+        ("a tuple as a word", (("not",), A)),
+        ("two sentences without a word", (A, B)),
+        ("a text where a sentence is due", ("not", "a")),
+        ("yes as a text", ("not", "yes")),
+        ("a sentence as a text", ("not", "not(a)")),
+        ("a text as first part", ("and", "a", A)),
+        ("a text as last part", ("and", A, "a")),
+        ("a tuple as a letter", ("mark", ("a",))),
+        ("a mark as a letter", ("mark", A)),
+        ("an empty tuple as a letter", ("mark", ())),
+        ("mark without a letter", ("mark",)),
+        ("mark of two letters", ("mark", "a", "b")),
+        ("a letter as a word", ("a",)),
+        ("a letter and a sentence", ("a", A)),
+        ("yes with an empty text", ("yes", "")),
+        ("yes with an empty tuple", ("yes", ())),
+        ("yes with a letter", ("yes", "a")),
+        ("yes with yes", ("yes", YES)),
+        ("an empty word", ("",)),
+        ("an empty word of a sentence", ("", A)),
+        ("an empty word of two", ("", A, B)),
+        ("201 words", tree("and", many_leaves(101))),
+        ("201 words, not too deep", ("some next", ("not", tree("or", many_leaves(100))))),
+        ("202 words", ("not", tree("or", many_leaves(101)))),
+        ("399 words", tree("some until", many_leaves(200))),
+        ("depth 25 in the first part", ("and", chain("not", 23), A)),
+        ("depth 25 in the last part", ("or", A, chain("all next", 23))),
+        ("a few tuples in too many places", nested(7)),
+        ("a wrong leaf far within", chain("some always", 22, ("mark", "g"))),
+        ("a wrong leaf among many", tree("all until", many_leaves(99) + [("mark", "")])),
+        ("a text far within", chain("and", 22, "a")),
+    ]
+    for mark in WRONG_MARKS:
+        found.append((f"mark {mark[:9]!r}", ("mark", mark)))
+        found.append((f"mark {mark[:9]!r} within", ("or", B, ("not", ("mark", mark)))))
+    for word in ONE_PART + TWO_PARTS:
+        found += [(f"{word} of {many}", (word,) + (A,) * many) for many in range(5) if many != (word in TWO_PARTS) + 1]
+        found += [(f"{word}, depth {many + 1}", chain(word, many)) for many in (24, 25, 59)]
+    odd = ["no", "Yes", "YES", "yes ", " yes", "true", "Not", "NOT", "not ", "some", "all", "next", "always", "until"]
+    odd += ["some  next", "somenext", "some_next", "Some next", "all Next", "some next ", " all next", "all\tnext"]
+    odd += ["some until\n", "until some", "some and", "some or", "some not", "xor", "implies", "Mark", "marks", "b" * 3000]
+    for word in odd:
+        found += [(f"the word {word[:12]!r}", (word,) + (A,) * many) for many in (0, 1, 2)]
+        found.append((f"the word {word[:12]!r} within", ("not", (word, A))))
+    return found
+
+
+def ways_from(world, room):
+    """Ways as lists of rooms, each up to where it comes again to a room where it was: there it goes round."""
+    found, waiting = [], [[room]]
+    while waiting:
+        way = waiting.pop()
+        for there in world[2][way[-1]]:
+            if there in way:
+                found.append(way)
+            else:
+                waiting.append(way + [there])
+    return found
+
+
+def holds_until(way, first, second):
+    return any(second[here] and all(first[there] for there in way[:place]) for place, here in enumerate(way))
+
+
+def truths(world, sentence):
+    """For each room whether a sentence holds, by the very words of point [10], ways gone through one by one."""
+    size = len(world[0])
+    word, parts = sentence[0], [truths(world, part) for part in parts_of(sentence)]
+    if word in ("yes", "mark"):
+        return [word == "yes" or sentence[1] in world[1][room] for room in range(size)]
+    if word == "not":
+        return [not here for here in parts[0]]
+    if word in ("and", "or"):
+        return [(all if word == "and" else any)([part[room] for part in parts]) for room in range(size)]
+    asked = any if word.startswith("some") else all
+    if word.endswith("next"):
+        return [asked([parts[0][there] for there in world[2][room]]) for room in range(size)]
+    if word.endswith("until"):
+        return [asked([holds_until(way, *parts) for way in ways_from(world, room)]) for room in range(size)]
+    return [asked([all(parts[0][here] for here in way) for way in ways_from(world, room)]) for room in range(size)]
+
+
+def worlds_for_sentences():
+    """Small worlds in which the ways of words of time part, with few marks, so that sentences of them differ."""
+    small = [world for size in (1, 2) for world in worlds_of(size)] + list(worlds_of(3))[::23]
+    few = [
+        ([0, 1, 0], [["a"], ["b"], []], [[0, 1], [2], [0]]),
+        ([1, 1, 0, 0], [["a"], ["a"], ["b"], []], [[1, 3], [1, 2], [0], [3]]),
+        ([0, 0, 0, 0], [[], ["a"], ["a", "b"], ["c"]], [[1, 2], [0, 3], [2], [1, 3]]),
+    ]
+    return small + few + [mixed(4, seed) for seed in range(3)]
 
 
 WRONG_WORLD = ([0], [[]], [[1]])
