@@ -1,6 +1,7 @@
 """Papers by which anybody sees where a sentence holds: its rooms, its ranks, and the papers of its parts."""
 
-from foreseehall.judging import ALWAYS, UNTILS, is_led, ranks_of, rooms_by, through_and_goal
+from foreseehall.judging import ALWAYS, BY_SOME_STEP, UNTILS, ranks_of, rooms_by, through_and_goal
+from foreseehall.ranking import is_led, is_lower
 from foreseehall.sentences import check_sentence, parts_of
 from foreseehall.worlds import check_world
 
@@ -18,18 +19,15 @@ def paper(world, sentence):
     return paper_of(world, sentence)
 
 
-def is_ranked_below(ranks, room, rank):
-    return ranks[room] is not None and ranks[room] < rank
-
-
 def is_rank_right(world, word, ranks, both, room):
     rank = ranks[room]
-    steps = world[2][room]
+    ahead = [ranks[there] for there in world[2][room]]
+    is_by_some = word in BY_SOME_STEP
     if room in both[1]:
         return rank == 0
     if rank is None:
-        return room not in both[0] or not is_led(word, [ranks[there] is not None for there in steps])
-    is_lessened = is_led(word, [is_ranked_below(ranks, there, rank) for there in steps])
+        return room not in both[0] or not is_led(is_by_some, [other is not None for other in ahead])
+    is_lessened = is_led(is_by_some, [is_lower(other, rank) for other in ahead])
     return rank > 0 and room in both[0] and is_lessened
 
 

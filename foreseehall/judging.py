@@ -1,5 +1,6 @@
 """Where sentences hold: from the rooms of their parts, and for untils and always by ranks."""
 
+from foreseehall.ranking import is_led, ranks_to
 from foreseehall.sentences import check_sentence, parts_of
 from foreseehall.worlds import check_world
 
@@ -13,10 +14,6 @@ def other_rooms(world, rooms):
     return [room for room in range(len(world[0])) if room not in rooms]
 
 
-def is_led(word, by_steps):
-    return any(by_steps) if word in BY_SOME_STEP else all(by_steps)
-
-
 # Through which rooms, and to which, the ranks go: those of an always lead anyhow to where its part doesn't hold.
 def through_and_goal(world, sentence, parts):
     if sentence[0] in UNTILS:
@@ -24,29 +21,12 @@ def through_and_goal(world, sentence, parts):
     return (list(range(len(world[0]))), other_rooms(world, parts[0]))
 
 
-def ranked_next(world, word, through, ranks):
-    found = []
-    for room in through:
-        if ranks[room] is None and is_led(word, [ranks[there] is not None for there in world[2][room]]):
-            found.append(room)
-    return found
-
-
-# A room that gets its rank in a round is led to rooms that had theirs ahead of it, so with lesser ones.
 def ranks_of(world, sentence, parts):
     word = sentence[0]
     if word not in UNTILS and word not in ALWAYS:
         return None
     both = through_and_goal(world, sentence, parts)
-    ranks = [None for owner in world[0]]
-    rank = 0
-    fresh = both[1]
-    while fresh:
-        for room in fresh:
-            ranks[room] = rank
-        rank += 1
-        fresh = ranked_next(world, word, both[0], ranks)
-    return ranks
+    return ranks_to(world, [word in BY_SOME_STEP for owner in world[0]], both[0], both[1])
 
 
 def holds_at(world, sentence, parts, ranks, room):
@@ -64,7 +44,7 @@ def holds_at(world, sentence, parts, ranks, room):
         return not here[0]
     if word == "and" or word == "or":
         return all(here) if word == "and" else any(here)
-    return is_led(word, [there in parts[0] for there in world[2][room]])
+    return is_led(word in BY_SOME_STEP, [there in parts[0] for there in world[2][room]])
 
 
 # Parts are told by the rooms where they hold, ranks as ranks_of tells them.

@@ -7,6 +7,7 @@ import unittest
 from foreseehall.errors import HallError
 
 LETTERS = "abcdef"
+FAR = 10 ** 59
 
 
 def lists_in(value):
@@ -63,9 +64,13 @@ def mixed(size, seed):
     return (owners, marks, steps)
 
 
+def plain(world, letters="a"):
+    """The same world with fewer marks, so that more rooms are alike."""
+    return (world[0], [[letter for letter in row if letter in letters] for row in world[1]], world[2])
+
+
 def wrong_worlds():
     """Tuples of the kind of a world that are none, each with what is wrong with it."""
-    far = 10 ** 59
     return [
         ("no rooms", ([], [], [])),
         ("25 rooms", ring(25)),
@@ -83,8 +88,8 @@ def wrong_worlds():
         ("owner 2", ([2], [[]], [[0]])),
         ("owner below 0", ([-1], [[]], [[0]])),
         ("last owner 2", ([0, 1, 2], [[], [], []], [[0], [1], [2]])),
-        ("far owner", ([far], [[]], [[0]])),
-        ("owner far below 0", ([-far], [[]], [[0]])),
+        ("far owner", ([FAR], [[]], [[0]])),
+        ("owner far below 0", ([-FAR], [[]], [[0]])),
         ("mark g", ([0], [["g"]], [[0]])),
         ("mark behind f", ([0], [["a", "g"]], [[0]])),
         ("great letter", ([0], [["A"]], [[0]])),
@@ -106,10 +111,10 @@ def wrong_worlds():
         ("step beyond", ([0], [[]], [[1]])),
         ("step beyond, behind another", ([0, 0], [[], []], [[0, 2], [1]])),
         ("step beyond in the last room", ([0, 0], [[], []], [[1], [1, 2]])),
-        ("step far beyond", ([0], [[]], [[far]])),
+        ("step far beyond", ([0], [[]], [[FAR]])),
         ("step below 0", ([0], [[]], [[-1]])),
         ("step below 0, ahead of another", ([0, 0], [[], []], [[-1, 0], [1]])),
-        ("step far below 0", ([0], [[]], [[-far]])),
+        ("step far below 0", ([0], [[]], [[-FAR]])),
         ("step twice", ([0], [[]], [[0, 0]])),
         ("last step twice", ([0, 0], [[], []], [[0, 1, 1], [1]])),
         ("steps out of order", ([0, 0], [[], []], [[1, 0], [1]])),
@@ -321,9 +326,111 @@ def worlds_for_sentences():
     return small + few + [mixed(4, seed) for seed in range(3)]
 
 
+def all_alike(world, owned):
+    """All pairs of rooms that are alike: of all pairs, those go that can't be among such as show likeness."""
+    size = len(world[0])
+    pairs = set(itertools.product(range(size), repeat=2))
+    ahead = None
+    while pairs != ahead:
+        ahead = pairs
+        pairs = {pair for pair in ahead if is_borne(world, pair, ahead, owned)}
+    return pairs
+
+
+def is_borne(world, pair, pairs, owned):
+    owners, marks, steps = world
+    one, other = pair
+    return (
+        marks[one] == marks[other]
+        and (not owned or owners[one] == owners[other])
+        and all(any((here, there) in pairs for there in steps[other]) for here in steps[one])
+        and all(any((here, there) in pairs for here in steps[one]) for there in steps[other])
+    )
+
+
+def along(way, many):
+    """The rooms of a way at its first places."""
+    front, ring_of_it = way
+    return list(itertools.islice(itertools.chain(front, itertools.cycle(ring_of_it)), many))
+
+
+def leads(world, rooms):
+    """All pairs of rooms such that some steps, one at least, lead within some rooms from the one to the other."""
+    found = {(here, there) for here in rooms for there in world[2][here] if there in rooms}
+    for middle in rooms:
+        ahead = [there for there in rooms if (middle, there) in found]
+        found |= {(here, there) for here in rooms if (here, middle) in found for there in ahead}
+    return found
+
+
+def fair_of(world, rooms, marks):
+    """The fair rooms: from them one comes to a room that one comes back to, by each of the marks."""
+    found = leads(world, rooms)
+    by_mark = [[room for room in rooms if mark in world[1][room]] for mark in marks]
+    rings = [
+        room for room in rooms if (room, room) in found
+        and all(any((room, there) in found and (there, room) in found for there in marked) for marked in by_mark)
+    ]
+    return [room for room in rooms if room in rings or any((room, there) in found for there in rings)]
+
+
+def is_fair(world, rooms, marks, way):
+    """Point [30], word by word, of a way for which nothing else is sure."""
+    front, around = way
+    places = along(way, len(front) + 2 * len(around) + 1) if around else []
+    is_way = around and all(there in world[2][here] for here, there in zip(places, places[1:]))
+    has_all = all(any(mark in world[1][room] for room in around) for mark in marks)
+    return bool(is_way and set(places) <= set(rooms) and has_all)
+
+
+def worlds_for_fair():
+    """Small worlds with few marks, so that some ways are fair and others are not."""
+    small = [plain(world, "ab") for size in (1, 2) for world in worlds_of(size)]
+    small += [plain(world, "ab") for world in list(worlds_of(3))[::13]]
+    return small + [plain(mixed(size, seed), "ab") for size in (4, 5) for seed in range(6)]
+
+
+def other_rooms(rooms, size):
+    """Lists of rooms with one thing otherwise."""
+    yield from [rooms[:place] + rooms[place + 1:] for place in range(len(rooms))]
+    yield from [sorted(rooms + [room]) for room in range(size)]
+    yield from [rooms + [room] for room in (-1, 0, size - 1, size, size + 1, FAR)]
+    yield from [[room] + rooms for room in (-FAR, -1, 0, size)]
+    yield from [rooms[::-1], rooms + rooms, [], list(range(size)), [room + 1 for room in rooms], [-room for room in rooms]]
+
+
+def other_ranks(ranks, size):
+    """Ranks with one thing otherwise, of those that have none too."""
+    if ranks is None:
+        return [[], [None] * size, [0] * size, [None], list(range(size))]
+    found = [None, [], [None] * size, [0] * size, ranks + [None], ranks + [0], [None] + ranks, [0] + ranks, ranks + ranks]
+    found += [ranks[:-1], ranks[1:], ranks[::-1], [rank and 7 * rank for rank in ranks], [rank and -rank for rank in ranks]]
+    found += [[rank and rank + 1 for rank in ranks], [rank and rank - 1 for rank in ranks]]
+    found += [[None if rank == 0 else rank for rank in ranks], [0 if rank is None else rank for rank in ranks]]
+    for room, rank in enumerate(ranks):
+        near = [] if rank is None else [rank - 1, rank + 1]
+        found += [ranks[:room] + [other] + ranks[room + 1:] for other in [None, -1, 0, 1, 2, 9, FAR, -FAR] + near]
+    return found
+
+
+def wrong_lists(size):
+    """Lists of numbers that are no rising lists of the rooms of a world of this size."""
+    last = size - 1
+    found = [[0, 0], [last, last], [last, 0, 0], [-1], [-1, 0], [0, -1], [size], [0, size], [size, 0], [FAR], [-FAR]]
+    found += [[-FAR, 0], [0, FAR], [-size], list(range(size)) + [last], list(range(size + 1)), [0] + list(range(size))]
+    found += [list(range(-1, size)), [0] * 120, list(range(120))]
+    if size > 1:
+        found += [[1, 0], list(range(size))[::-1], [0, last, 0], [last, 0], [0, 1, 0]]
+    return found
+
+
 WRONG_WORLD = ([0], [[]], [[1]])
-WRONG_ROOMS = [-1, -2, -24, -(10 ** 59), 24, 25, 10 ** 59]
+WRONG_ROOMS = [-1, -2, -24, -FAR, 24, 25, FAR]
 WRONG_MARKS = ["", "g", "A", "F", "ab", "aa", "abcdef", "bc", "a ", " a", " ", "\n", "a\n", "`", "0", "mark", "b" * 3000]
+WRONG_MARK_LISTS = [[mark] for mark in WRONG_MARKS] + [["a", mark] for mark in WRONG_MARKS] + [
+    ["a", "a"], ["f", "f"], ["b", "a"], ["a", "c", "b"], ["a", "b", "b"], list("abcdef") + ["f"], list("fedcba"),
+    ["", "a"], ["a", "b", "c", "d", "e", "f", "g"], ["a"] * 120,
+]
 
 
 class HallCase(unittest.TestCase):

@@ -7,11 +7,10 @@ from foreseehall.errors import NoSentence, NoWorld
 from foreseehall.judgepapers import is_paper, paper
 from foreseehall.judging import holds
 from hallcase import (
-    NEVER, ONE_PART, TWO_PARTS, WRONG_WORLD, YES, A, B, C, HallCase, chain, full, many_leaves, mixed, mixed_sentence,
-    parts_of, ring, sentences_of, tree, truths, worlds_for_sentences, wrong_sentences, wrong_worlds,
+    FAR, NEVER, ONE_PART, TWO_PARTS, WRONG_WORLD, YES, A, B, C, HallCase, chain, full, many_leaves, mixed, mixed_sentence,
+    other_ranks, other_rooms, parts_of, ring, sentences_of, tree, truths, worlds_for_sentences, wrong_sentences,
+    wrong_worlds,
 )
-
-FAR = 10 ** 59
 
 # A row of rooms: 0, 1, 2 have a, 3 has b, 4 has nothing; from 1 one may stay, from 2 one may go to 4 too.
 HALL = ([0, 1, 0, 1, 0], [["a"], ["a"], ["a"], ["b"], []], [[1], [1, 2], [3, 4], [3], [3]])
@@ -72,29 +71,6 @@ def is_right(world, sentence, told):
         return all(right) and rooms == [room for room in range(size) if ranks[room] is not None]
     right = [rank_is_right_for_always(sentence[0], ranks, steps, *answers, room) for room in range(size)]
     return all(right) and rooms == [room for room in range(size) if ranks[room] is None]
-
-
-def other_rooms(rooms, size):
-    """Lists of rooms with one thing otherwise."""
-    yield from [rooms[:place] + rooms[place + 1:] for place in range(len(rooms))]
-    yield from [sorted(rooms + [room]) for room in range(size)]
-    yield from [rooms + [room] for room in (-1, 0, size - 1, size, size + 1, FAR)]
-    yield from [[room] + rooms for room in (-FAR, -1, 0, size)]
-    yield from [rooms[::-1], rooms + rooms, [], list(range(size)), [room + 1 for room in rooms], [-room for room in rooms]]
-
-
-def other_ranks(ranks, size):
-    """Ranks with one thing otherwise, of those that have none too."""
-    if ranks is None:
-        return [[], [None] * size, [0] * size, [None], list(range(size))]
-    found = [None, [], [None] * size, [0] * size, ranks + [None], ranks + [0], [None] + ranks, [0] + ranks, ranks + ranks]
-    found += [ranks[:-1], ranks[1:], ranks[::-1], [rank and 7 * rank for rank in ranks], [rank and -rank for rank in ranks]]
-    found += [[rank and rank + 1 for rank in ranks], [rank and rank - 1 for rank in ranks]]
-    found += [[None if rank == 0 else rank for rank in ranks], [0 if rank is None else rank for rank in ranks]]
-    for room, rank in enumerate(ranks):
-        near = [] if rank is None else [rank - 1, rank + 1]
-        found += [ranks[:room] + [other] + ranks[room + 1:] for other in [None, -1, 0, 1, 2, 9, FAR, -FAR] + near]
-    return found
 
 
 def other_parts(below):

@@ -8,8 +8,8 @@ from foreseehall.judging import holds
 from foreseehall.likeness import alike, are_alike_by, classes, least_world
 from foreseehall.worlds import is_world
 from hallcase import (
-    ONE_PART, TWO_PARTS, WRONG_ROOMS, WRONG_WORLD, YES, A, B, HallCase, full, mixed, mixed_sentence, ring, sentences_of,
-    some_of, worlds_of, wrong_worlds,
+    ONE_PART, TWO_PARTS, WRONG_ROOMS, WRONG_WORLD, YES, A, B, HallCase, all_alike, full, mixed, mixed_sentence, plain,
+    ring, sentences_of, some_of, worlds_of, wrong_worlds,
 )
 
 # Rooms 0 and 3 are alike but for their owners, and so are 1 and 2; 4 looks like 0 and 3, but may stay.
@@ -29,38 +29,11 @@ def shows_likeness(world, pairs, owned):
     return True
 
 
-def all_alike(world, owned):
-    """All pairs of rooms that are alike: of all pairs, those go that can't be among such as show likeness."""
-    size = len(world[0])
-    pairs = set(itertools.product(range(size), repeat=2))
-    ahead = None
-    while pairs != ahead:
-        ahead = pairs
-        pairs = {pair for pair in ahead if is_borne(world, pair, ahead, owned)}
-    return pairs
-
-
-def is_borne(world, pair, pairs, owned):
-    owners, marks, steps = world
-    one, other = pair
-    return (
-        marks[one] == marks[other]
-        and (not owned or owners[one] == owners[other])
-        and all(any((here, there) in pairs for there in steps[other]) for here in steps[one])
-        and all(any((here, there) in pairs for here in steps[one]) for there in steps[other])
-    )
-
-
 def classes_of(world, owned):
     pairs = all_alike(world, owned)
     size = len(world[0])
     found = [[other for other in range(size) if (room, other) in pairs] for room in range(size)]
     return [group for room, group in enumerate(found) if group[0] == room]
-
-
-def plain(world, letters="a"):
-    """The same world with fewer marks, so that more rooms are alike."""
-    return (world[0], [[letter for letter in row if letter in letters] for row in world[1]], world[2])
 
 
 def some_worlds():
