@@ -93,13 +93,16 @@ def way_shows(world, sentence, way):
     return is_so_along(way, sentence[0], parts) == (sentence[0] in OF_SOME)
 
 
-# The one way on which each room has one step: it ends where it would come to one of its rooms again.
+# The one way that goes on from each room to the one that is chosen for it: it is known as soon as it comes to one of
+# its rooms again. None where it comes to a room for which none is chosen.
 def way_along(choices, room):
     met = []
     here = room
-    while here not in met:
+    while here is not None and here not in met:
         met.append(here)
         here = choices[here]
+    if here is None:
+        return None
     place = met.index(here)
     return (met[:place], met[place:])
 

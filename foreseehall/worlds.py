@@ -1,6 +1,6 @@
 """Worlds: a tuple of owners, marks and steps, with an entry of each for every room."""
 
-from foreseehall.errors import NoMark, NoRoom, NoWorld
+from foreseehall.errors import NoMark, NoPlayer, NoRoom, NoWorld
 
 # A tuple, not a text: the empty text and "ab" are in "abcdef" too, and are no letters.
 LETTERS = ("a", "b", "c", "d", "e", "f")
@@ -36,6 +36,11 @@ def is_world(owners, marks, steps):
 def check_world(world):
     if not is_world(world[0], world[1], world[2]):
         raise NoWorld("no world: its owners, marks or steps are not as those of a world")
+
+
+def check_player(player):
+    if player not in PLAYERS:
+        raise NoPlayer("no player: there are 0 and 1 alone")
 
 
 def check_mark(mark):

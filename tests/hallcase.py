@@ -4,7 +4,8 @@ import copy
 import itertools
 import unittest
 
-from foreseehall.errors import HallError
+from foreseehall.errors import HallError, NoPlayer, NoRoom, NoWorld
+from foreseehall.plans import way_by
 
 LETTERS = "abcdef"
 FAR = 10 ** 59
@@ -390,6 +391,77 @@ def worlds_for_fair():
     return small + [plain(mixed(size, seed), "ab") for size in (4, 5) for seed in range(6)]
 
 
+def owned_by(world, owners):
+    return (list(owners), world[1], world[2])
+
+
+def games():
+    """Small worlds for two players, all of one player's among them, with few enough plans to go through them all."""
+    small = [owned_by(world, owners) for world in worlds_of(2) for owners in itertools.product((0, 1), repeat=2)]
+    owners = itertools.cycle(itertools.product((0, 1), repeat=3))
+    small += [owned_by(world, next(owners)) for world in list(worlds_of(3))[::9]]
+    return [ring(1), full(1)] + small + [mixed(4, seed) for seed in range(12)] + [mixed(5, seed) for seed in range(4)]
+
+
+def great_games():
+    """Worlds of 24 rooms: a ring, all steps, some steps, each player's alone and both players'."""
+    halves = [room % 2 for room in range(24)]
+    rows = ([0] * 24, [[] for _ in range(24)], [sorted({max(room - 1, 0), min(room + 1, 23)}) for room in range(24)])
+    shared = [owned_by(world, halves) for world in (ring(24), full(24), rows)]
+    return shared + [ring(24), full(24), rows, owned_by(rows, [1] * 24), mixed(24, 1), mixed(24, 2), mixed(23, 3)]
+
+
+def whole_plans(world, player):
+    """All plans of a player that have a step in each of its rooms."""
+    rows = [steps if owner == player else [None] for owner, steps in zip(world[0], world[2])]
+    return [list(plan) for plan in itertools.product(*rows)]
+
+
+def some_plans(world, player):
+    """All plans of a player."""
+    rows = [[None] + steps if owner == player else [None] for owner, steps in zip(world[0], world[2])]
+    return [list(plan) for plan in itertools.product(*rows)]
+
+
+def is_a_plan(world, player, plan):
+    """Point [34], word by word."""
+    owners, _, steps = world
+    if len(plan) != len(owners):
+        return False
+    others = [there for room, there in enumerate(plan) if owners[room] != player]
+    return others == [None] * len(others) and all(there is None or there in steps[room] for room, there in enumerate(plan))
+
+
+def ways_by_plans(world, player, plan, room):
+    """All ways from a room when the player goes by a plan, for all plans of the other one."""
+    for counter in whole_plans(world, 1 - player):
+        yield way_by(world, *((plan, counter) if player == 0 else (counter, plan)), room)
+
+
+def filled(world, player, plan):
+    """A plan with a step in each of the player's rooms; where it has none, any will do."""
+    return [row[-1] if owner == player and there is None else there for owner, row, there in zip(world[0], world[2], plan)]
+
+
+def some_rooms(size):
+    """Some lists of told rooms: all lists in small worlds, and in others none, all, one and many."""
+    rooms = list(range(size))
+    if size < 4:
+        return some_of(rooms)
+    return [[], rooms, [0], [size - 1], rooms[1:], rooms[::3], rooms[1::2], rooms[size // 2:], [1, size - 2]]
+
+
+def other_plans(plan, world):
+    """Lists with one thing otherwise than in a plan, whether they are plans or not."""
+    size = len(plan)
+    found = [[], [None] * size, plan + [None], plan + [0], [None] + plan, plan[:-1], plan[1:], plan + plan, plan[::-1]]
+    found += [[steps[0] for steps in world[2]], [steps[-1] for steps in world[2]]]
+    for room in range(size):
+        others = [None, -1, -size, size, FAR, -FAR] + list(range(size))
+        found += [plan[:room] + [there] + plan[room + 1:] for there in others]
+    return found
+
+
 def other_rooms(rooms, size):
     """Lists of rooms with one thing otherwise."""
     yield from [rooms[:place] + rooms[place + 1:] for place in range(len(rooms))]
@@ -425,6 +497,7 @@ def wrong_lists(size):
 
 
 WRONG_WORLD = ([0], [[]], [[1]])
+WRONG_PLAYERS = [-1, -2, 2, 3, 24, FAR, -FAR]
 WRONG_ROOMS = [-1, -2, -24, -FAR, 24, 25, FAR]
 WRONG_MARKS = ["", "g", "A", "F", "ab", "aa", "abcdef", "bc", "a ", " a", " ", "\n", "a\n", "`", "0", "mark", "b" * 3000]
 WRONG_MARK_LISTS = [[mark] for mark in WRONG_MARKS] + [["a", mark] for mark in WRONG_MARKS] + [
@@ -475,3 +548,26 @@ class HallCase(unittest.TestCase):
                 function(*handed)
             self.assertIs(type(caught.exception), kind)
         self.same(handed, ahead)
+
+
+class RefusalsOfTelling:
+    """What all refuse that ask for a world, a player and told rooms; asked(kind, world, player, rooms) asks them."""
+
+    def test_no_world(self):
+        for wrong, world in wrong_worlds():
+            with self.subTest(wrong):
+                self.asked(NoWorld, world, 0, [])
+                self.asked(NoWorld, world, 2, [-1])
+
+    def test_no_player(self):
+        for player in WRONG_PLAYERS:
+            for rooms in ([], [0, 1], [1, 0], [5]):
+                self.asked(NoPlayer, mixed(5, 1), player, rooms)
+                self.asked(NoWorld, WRONG_WORLD, player, rooms)
+
+    def test_no_rooms(self):
+        for world in (mixed(5, 1), ring(1), full(24)):
+            for rooms in wrong_lists(len(world[0])):
+                for player in (0, 1):
+                    self.asked(NoRoom, world, player, rooms)
+                self.asked(NoPlayer, world, -1, rooms)
