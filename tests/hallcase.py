@@ -432,6 +432,30 @@ def is_a_plan(world, player, plan):
     return others == [None] * len(others) and all(there is None or there in steps[room] for room, there in enumerate(plan))
 
 
+def brings(world, player, rooms, ranks, plan):
+    """Point [36], word by word, what a plan is by point [34]."""
+    owners, _, steps = world
+    if len(ranks) != len(owners) or any(rank is not None and rank < 0 for rank in ranks):
+        return False
+    if not is_a_plan(world, player, plan):
+        return False
+    for room, rank in enumerate(ranks):
+        ahead = [ranks[there] for there in steps[room]]
+        lower = [rank is not None and other is not None and other < rank for other in ahead]
+        if (rank == 0) != (room in rooms):
+            return False
+        if rank is not None and rank > 0 and owners[room] == player:
+            if plan[room] is None or not lower[steps[room].index(plan[room])]:
+                return False
+        if rank is not None and rank > 0 and owners[room] != player and not all(lower):
+            return False
+        if rank is None and owners[room] == player and any(other is not None for other in ahead):
+            return False
+        if rank is None and owners[room] != player and all(other is not None for other in ahead):
+            return False
+    return True
+
+
 def ways_by_plans(world, player, plan, room):
     """All ways from a room when the player goes by a plan, for all plans of the other one."""
     for counter in whole_plans(world, 1 - player):

@@ -8,36 +8,12 @@ from foreseehall.bringing import bring, bring_shows
 from foreseehall.building import handed_over
 from foreseehall.plans import is_plan
 from hallcase import (
-    FAR, HallCase, RefusalsOfTelling, filled, full, games, great_games, is_a_plan, other_plans, other_ranks,
-    other_rooms, ring, some_of, some_plans, some_rooms, ways_by_plans, whole_plans,
+    FAR, HallCase, RefusalsOfTelling, brings, filled, full, games, great_games, other_plans, other_ranks, other_rooms,
+    ring, some_of, some_plans, some_rooms, ways_by_plans, whole_plans,
 )
 
 # Rooms 0, 1 and 4 are player 0's, rooms 2 and 3 player 1's.
 HALL = ([0, 0, 1, 1, 0], [[], [], [], [], []], [[0, 1, 2], [2, 4], [0, 3], [1, 4], [4]])
-
-
-def shows(world, player, rooms, ranks, plan):
-    """Point [36], word by word, what a plan is by point [34]."""
-    owners, _, steps = world
-    if len(ranks) != len(owners) or any(rank is not None and rank < 0 for rank in ranks):
-        return False
-    if not is_a_plan(world, player, plan):
-        return False
-    for room, rank in enumerate(ranks):
-        ahead = [ranks[there] for there in steps[room]]
-        lower = [rank is not None and other is not None and other < rank for other in ahead]
-        if (rank == 0) != (room in rooms):
-            return False
-        if rank is not None and rank > 0 and owners[room] == player:
-            if plan[room] is None or not lower[steps[room].index(plan[room])]:
-                return False
-        if rank is not None and rank > 0 and owners[room] != player and not all(lower):
-            return False
-        if rank is None and owners[room] == player and any(other is not None for other in ahead):
-            return False
-        if rank is None and owners[room] != player and all(other is not None for other in ahead):
-            return False
-    return True
 
 
 def steps_until(way, rooms):
@@ -81,7 +57,7 @@ class Bring(HallCase):
             is_due = world[0][room] == player and ranks[room] is not None and ranks[room] > 0
             self.assertIs(there is not None, is_due)
             self.assertTrue(there is None or ranks[there] is not None and ranks[there] < ranks[room])
-        self.assertIs(shows(world, player, rooms, ranks, plan), True)
+        self.assertIs(brings(world, player, rooms, ranks, plan), True)
         self.assertIs(bring_shows(world, player, rooms, ranks, plan), True)
         return answer
 
@@ -176,14 +152,14 @@ class Bring(HallCase):
 class BringShows(HallCase):
     def looked_at(self, world, player, rooms, ranks, plan):
         answer = bring_shows(world, player, rooms, ranks, plan)
-        self.assertIs(answer, shows(world, player, rooms, ranks, plan), (world, player, rooms, ranks, plan))
+        self.assertIs(answer, brings(world, player, rooms, ranks, plan), (world, player, rooms, ranks, plan))
         if answer:
             fewest = fewest_by_rounds(world, player, rooms)
             self.assertEqual([rank is None for rank in ranks], [rank is None for rank in fewest])
         return answer
 
     def answered(self, is_so, ranks, plan, rooms=(4,), player=0):
-        self.assertIs(shows(HALL, player, list(rooms), ranks, plan), is_so)
+        self.assertIs(brings(HALL, player, list(rooms), ranks, plan), is_so)
         self.assertIs(self.ask(bring_shows, HALL, player, list(rooms), ranks, plan), is_so)
 
     def test_right_ones_that_are_not_as_told(self):

@@ -4,13 +4,13 @@ import copy
 import itertools
 import unittest
 
-from foreseehall.bringing import bring, bring_shows
+from foreseehall.bringing import bring
 from foreseehall.building import handed_over
 from foreseehall.fair import fair_rooms
 from foreseehall.keeping import keep, keep_shows
 from foreseehall.plans import is_plan
 from hallcase import (
-    FAR, HallCase, RefusalsOfTelling, filled, full, games, great_games, is_a_plan, other_plans, other_ranks,
+    FAR, HallCase, RefusalsOfTelling, brings, filled, full, games, great_games, is_a_plan, other_plans, other_ranks,
     other_rooms, ring, some_of, some_plans, some_rooms, ways_by_plans, whole_plans,
 )
 
@@ -21,11 +21,11 @@ KEPT = ([0], [0, None, None, None, None], [None, 2, 1, 0, 0], [None, None, 3, No
 
 
 def shows(world, player, rooms, paper):
-    """Point [37], word by word; what shows a bringing is asked of the program."""
+    """Point [37], word by word."""
     kept, plan, ranks, counter = paper
     size = len(world[0])
     outside = [room for room in range(size) if room not in rooms]
-    if not bring_shows(world, 1 - player, outside, ranks, counter):
+    if not brings(world, 1 - player, outside, ranks, counter):
         return False
     if kept != [room for room in range(size) if ranks[room] is None] or not is_a_plan(world, player, plan):
         return False
